@@ -1,0 +1,1 @@
+"""Ontheline: rankings, the lines on which they fall, and what bars any line."""

@@ -1,0 +1,103 @@
+"""What several tests use: things that are none, and plain ways to check what is told."""
+
+from contextlib import contextmanager
+from itertools import permutations
+
+from ontheline import errors
+
+LONGEST = 10 ** 30 - 1
+
+# Each of these is no ranking, and so no line either.
+NO_RANKINGS = [
+    None, True, False, 0, 7, -3, "", "0>1", (), (0,), (0, 1), [],
+    [True], [False], [0, True], [0, False], [1, True], [None], ["0"], [-1], [0, -1], [-LONGEST],
+    [0, 0], [3, 1, 3], [0, 1, None], [0, "1"], [[0]], [[0, 1]], [(0,)], [0, [1]], [(0, 1), (1, 0)], [()], [[]],
+    [[[[[[[[0]]]]]]]], list(range(11)), list(range(10)) + [0], [5] * 11,
+]
+
+# Each of these is no folk.
+NO_FOLKS = [
+    None, True, False, 0, 5, -1, "", "0>1\n", (), [], [0], [0, 1], ((0, 1),), ([0, 1],), [(0, 1)], [[]],
+    [None], [True], [""], [[0], []], [[0, 1], (1, 0)], [[0, 1], None], [[0, 1], 5], [[0, 1], "0>1"],
+    [[0, 1], [0, 2]], [[0, 1], [0]], [[0], [0, 1]], [[0, 1], [0, 1, 2]], [[0, 1], [1, 0], [1, 2]],
+    [[0, 0]], [[0, 1], [1, 1]], [[0, 1], [0, True]], [[False, 1]], [[-1, 0]], [[0, 1], [0, -1]],
+    [[[0, 1]]], [list(range(11))], [[0, 1]] * 21, [[0, 1]] * 20 + [None], [[0]] * 21,
+]
+
+ALL_ERRORS = [
+    "NoRanking", "NoFolk", "NoNames", "NoFit", "NoLine", "NoNumber", "NoTree", "NoPaper", "NoText", "NoTitle",
+    "NoRow", "NoBack", "TooGreat", "NoWeights", "NoFall", "NoTops", "NoFixed", "NoHand", "NoRule",
+]
+
+
+@contextmanager
+def refused(case, kind):
+    """The rows below are refused with the error class of this name, and with none of the others."""
+    with case.assertRaises(getattr(errors, kind)) as held:
+        yield held
+    error = held.exception
+    case.assertIsInstance(error, errors.FolkError)
+    case.assertIsInstance(error, ValueError)
+    others = [name for name in ALL_ERRORS if name != kind]
+    case.assertEqual([name for name in others if isinstance(error, getattr(errors, name))], [])
+
+
+def orders(names):
+    """All rankings of some names."""
+    return [list(order) for order in permutations(names)]
+
+
+def is_stretch(line, names):
+    """Whether names stand side by side in a line, by the words of point 7."""
+    places = sorted(line.index(name) for name in names)
+    return places == list(range(places[0], places[0] + len(places)))
+
+
+def falls_by_words(line, ranking):
+    """Whether a ranking falls on a line, by the words of point 7."""
+    return all(is_stretch(line, ranking[:count]) for count in range(1, len(ranking) + 1))
+
+
+def inner_lists(thing):
+    """All lists that stand in a thing, itself among them, as often as they stand there."""
+    if not isinstance(thing, (list, tuple)):
+        return []
+    found = [thing] if isinstance(thing, list) else []
+    for part in thing:
+        found.extend(inner_lists(part))
+    return found
+
+
+def frozen(thing):
+    """A thing with tuples in the place of its lists: a picture that nothing changes."""
+    if isinstance(thing, (list, tuple)):
+        return (isinstance(thing, list), tuple(frozen(part) for part in thing))
+    return thing
+
+
+def spoil(thing):
+    """Change each list that stands in a thing, and make it longer."""
+    for part in inner_lists(thing):
+        part.reverse()
+        part.append("spoilt")
+        part[0] = "spoilt"
+
+
+def check_own(case, ask, *handed):
+    """What is asked leaves what was handed in as it was, and what is told is the asker's own."""
+    before = frozen(handed)
+    told = ask(*handed)
+    picture = frozen(told)
+    case.assertEqual(frozen(handed), before)
+    lists = inner_lists(told)
+    case.assertEqual(len({id(part) for part in lists}), len(lists), "a list stands at two places")
+    given = {id(part) for part in inner_lists(handed)}
+    case.assertEqual([part for part in lists if id(part) in given], [], "a list was handed in")
+    again = ask(*handed)
+    case.assertEqual(frozen(again), picture)
+    case.assertEqual({id(part) for part in inner_lists(again)} & {id(part) for part in lists}, set())
+    spoil(told)
+    case.assertEqual(frozen(handed), before)
+    case.assertEqual(frozen(again), picture)
+    case.assertEqual(frozen(ask(*handed)), picture)
+    case.assertEqual(frozen(handed), before)

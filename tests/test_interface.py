@@ -1,0 +1,57 @@
+"""The interface at the document's end: names, arguments, and the files that define them."""
+
+import ast
+import importlib
+import inspect
+import pathlib
+import unittest
+
+PACKAGE = pathlib.Path(__file__).resolve().parent.parent / "ontheline"
+
+INTERFACE = {
+    "rankings": {
+        "is_ranking": ["thing"],
+        "is_folk": ["thing"],
+        "ahead": ["ranking", "one", "other"],
+        "between": ["one", "middle", "other"],
+        "unlike": ["one", "other"],
+        "cut_down": ["ranking", "some"],
+        "steps": ["one", "other"],
+    },
+    "lines": {
+        "falls": ["line", "ranking"],
+        "valley": ["line", "ranking"],
+        "number_on": ["line", "ranking"],
+        "ranking_on": ["line", "number"],
+        "lines_of": ["ranking"],
+        "all_lines": ["folk"],
+    },
+}
+
+
+class Interface(unittest.TestCase):
+
+    def test_each_function_is_there_with_its_arguments(self):
+        for file, functions in INTERFACE.items():
+            module = importlib.import_module("ontheline." + file)
+            for name, arguments in functions.items():
+                with self.subTest(file=file, name=name):
+                    told = inspect.signature(getattr(module, name))
+                    self.assertEqual(list(told.parameters), arguments)
+
+    def test_each_function_is_defined_in_its_file(self):
+        for file, functions in INTERFACE.items():
+            tree = ast.parse((PACKAGE / (file + ".py")).read_text())
+            defined = [part.name for part in tree.body if isinstance(part, ast.FunctionDef)]
+            for name in functions:
+                self.assertEqual(defined.count(name), 1, name)
+
+    def test_each_error_is_defined_in_its_file(self):
+        from samples import ALL_ERRORS
+        tree = ast.parse((PACKAGE / "errors.py").read_text())
+        defined = [part.name for part in tree.body if isinstance(part, ast.ClassDef)]
+        self.assertEqual(sorted(defined), sorted(ALL_ERRORS + ["FolkError"]))
+
+
+if __name__ == "__main__":
+    unittest.main()
