@@ -34,7 +34,7 @@ def run_file(path):
         failed = max(1, sum(number_behind("[(,] ?" + word, closing) for word in words))
         print(done.stdout)
     passed = max(0, ran - skipped - failed)
-    print(f"{path.parent.name}/{path.name}: {ran} run, {failed} failed", flush=True)
+    print(f"{path.relative_to(ROOT.parent)}: {ran} run, {failed} failed", flush=True)
     return passed, failed, skipped
 
 
