@@ -77,12 +77,27 @@ def places_of(ranking):
     return {name: place for place, name in enumerate(ranking)}
 
 
+def is_ahead(ranking, one, other):
+    """Whether the one of two names of a ranking is ahead of the other one in it."""
+    return ranking.index(one) < ranking.index(other)
+
+
+def kept(ranking, some):
+    """Some names of a ranking alone, in its order."""
+    return [name for name in ranking if name in some]
+
+
+def last_of(ranking, some):
+    """The last one, in a ranking, of some names of it."""
+    return kept(ranking, some)[-1]
+
+
 def ahead(ranking, one, other):
     """Whether the one name is ahead of the other one in a ranking."""
     check_ranking(ranking)
     if one == other or not are_names_of(ranking, [one, other]):
         raise NoNames("these are no two unlike names of the ranking")
-    return ranking.index(one) < ranking.index(other)
+    return is_ahead(ranking, one, other)
 
 
 def count_unlike(one, other):
@@ -110,7 +125,7 @@ def cut_down(ranking, some):
     check_ranking(ranking)
     if not some or not are_names_of(ranking, some):
         raise NoNames("these are no names of the ranking")
-    return [name for name in ranking if name in some]
+    return kept(ranking, some)
 
 
 def exchanged(ranking, place):

@@ -30,6 +30,13 @@ ALL_ERRORS = [
 ]
 
 
+# Each of these is no list of whole numbers, but the last one, which has none.
+ODD_THINGS = [
+    None, True, False, 0, 1, -1, LONGEST, "", "0", "line", "0 1 2", (), ((),), (0,), (0, 1), (0, 1, 2), [None],
+    [[]], [()], [""], ["0", "1"], [True, False], [[0, 1]], [(0, 1)], [[[[[[[[0]]]]]]]], ((((((((0,),),),),),),),), [],
+]
+
+
 @contextmanager
 def refused(case, kind):
     """The rows below are refused with the error class of this name, and with none of the others."""
@@ -45,6 +52,71 @@ def refused(case, kind):
 def orders(names):
     """All rankings of some names."""
     return [list(order) for order in permutations(names)]
+
+
+def some_on_line(chance, line, many):
+    """Some rankings that fall on a line, perhaps told again."""
+    told = []
+    for _ in range(many):
+        low = high = chance.randrange(len(line))
+        ranking = [line[low]]
+        while len(ranking) < len(line):
+            if low > 0 and (high == len(line) - 1 or chance.random() < 0.5):
+                low -= 1
+                ranking.append(line[low])
+            else:
+                high += 1
+                ranking.append(line[high])
+        told.append(ranking)
+    return told
+
+
+def way_of_exchanges(chance, start, wanted):
+    """Rankings from the one to the other, in which each but the first has two neighbours exchanged that must be."""
+    way = [list(start)]
+    while way[-1] != wanted:
+        last = way[-1]
+        places = [at for at in range(1, len(last)) if wanted.index(last[at - 1]) > wanted.index(last[at])]
+        at = chance.choice(places)
+        way.append(last[:at - 1] + [last[at], last[at - 1]] + last[at + 1:])
+    return way
+
+
+def some_along_row(chance, names, many):
+    """Some rankings along a row, in its order, perhaps told again: each two names change sides once at most."""
+    way = way_of_exchanges(chance, chance.sample(names, len(names)), chance.sample(names, len(names)))
+    return [list(way[at]) for at in sorted(chance.choices(range(len(way)), k=many))]
+
+
+def bent_lists(right, known):
+    """Lists, and other things, that are none of as many unlike known numbers, by one change of a list that is."""
+    spare = [one for one in known if one not in right]
+    bent = ODD_THINGS + [tuple(right), [right], right[:-1], right[1:], right + right[:1], right + [max(known) + 1]]
+    bent += [right + spare[:1]] if spare else []
+    for place in range(len(right)):
+        wrong = [None, True, False, -1, max(known) + 1, LONGEST, 10 ** 50, "", str(right[place]), (right[place],),
+                 [right[place]]]
+        wrong += [one for one in right if one != right[place]]
+        bent += [right[:place] + [one] + right[place + 1:] for one in wrong]
+    return bent
+
+
+def bent_papers(paper, others):
+    """Things that begin with no right word, or hold more or fewer things, by one change of a paper."""
+    word, *rest = paper
+    words = [None, True, False, 0, 1, "", word.upper(), word + " ", " " + word, word[:-1], word + "s", word[0],
+             (word,), [word], *others]
+    bent = [(other, *rest) for other in words]
+    bent += [paper[:-1], paper[1:], paper + (None,), paper + ([],), paper + paper[-1:], paper + paper, (word,), word,
+             (paper,), [paper], list(paper), [list(paper)], ()]
+    return bent + [thing for thing in ODD_THINGS if thing != ()]
+
+
+def numbers_in(thing):
+    """All things in a tuple or a list that are neither texts nor tuples nor lists."""
+    if isinstance(thing, (list, tuple)):
+        return [number for part in thing for number in numbers_in(part)]
+    return [] if isinstance(thing, str) else [thing]
 
 
 def is_stretch(line, names):

@@ -26,6 +26,16 @@ INTERFACE = {
         "lines_of": ["ranking"],
         "all_lines": ["folk"],
     },
+    "judge": {
+        "judged": ["folk", "paper"],
+    },
+    "builder": {
+        "built": ["folk"],
+    },
+    "rows": {
+        "row_judged": ["folk", "paper"],
+        "row_built": ["folk"],
+    },
 }
 
 
