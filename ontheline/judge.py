@@ -1,6 +1,6 @@
 """The judge of papers of lines: points 10 and 11 of the document."""
 
-from ontheline.lines import is_falling
+from ontheline.lines import first_not_falling
 from ontheline.papers import are_hands, are_names, is_paper
 from ontheline.rankings import check_folk, is_ahead, last_of
 
@@ -23,10 +23,8 @@ def line_judged(folk, line):
     """What is not so of a line on which all rankings are said to fall, or None."""
     if not are_names(line, len(folk[0]), folk):
         return ("line",)
-    for hand, ranking in enumerate(folk):
-        if not is_falling(line, ranking):
-            return ("falls", hand)
-    return None
+    hand = first_not_falling(line, folk)
+    return None if hand is None else ("falls", hand)
 
 
 def three_judged(folk, hands, names):

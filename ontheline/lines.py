@@ -2,7 +2,7 @@
 
 from itertools import combinations
 
-from ontheline.errors import NoFit, NoLine, NoNumber
+from ontheline.errors import NoFall, NoFit, NoLine, NoNumber
 from ontheline.rankings import (
     check_folk, check_ranking, check_same_names, is_ranking, is_whole, places_of)
 
@@ -34,6 +34,23 @@ def is_falling(line, ranking):
         else:
             return False
     return True
+
+
+def first_not_falling(line, folk):
+    """The first hand of a folk whose ranking doesn't fall on a line of its names, or None."""
+    for hand, ranking in enumerate(folk):
+        if not is_falling(line, ranking):
+            return hand
+    return None
+
+
+def check_line_of(folk, line):
+    """Refuse what is no line of a folk's names on which all its rankings fall."""
+    check_line(line)
+    check_same_names(line, folk[0])
+    hand = first_not_falling(line, folk)
+    if hand is not None:
+        raise NoFall(hand)
 
 
 def falls(line, ranking):

@@ -26,3 +26,8 @@ def are_hands(thing, many, folk):
 def are_names(thing, many, folk):
     """Whether anything is a list of so many unlike names of a folk."""
     return are_unlike_ones(thing, many, folk[0])
+
+
+def are_some_names(thing, least, folk):
+    """Whether anything is a list of unlike names of a folk, at least so many."""
+    return isinstance(thing, list) and len(thing) >= least and are_names(thing, len(thing), folk)

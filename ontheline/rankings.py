@@ -46,6 +46,11 @@ def are_names_of(ranking, some):
     return all(is_whole(name) and name in ranking for name in some)
 
 
+def are_two_names(ranking, one, other):
+    """Whether these are two unlike names of a ranking."""
+    return one != other and are_names_of(ranking, [one, other])
+
+
 def check_ranking(thing):
     """Refuse what is no ranking."""
     if not is_ranking(thing):
@@ -95,7 +100,7 @@ def last_of(ranking, some):
 def ahead(ranking, one, other):
     """Whether the one name is ahead of the other one in a ranking."""
     check_ranking(ranking)
-    if one == other or not are_names_of(ranking, [one, other]):
+    if not are_two_names(ranking, one, other):
         raise NoNames("these are no two unlike names of the ranking")
     return is_ahead(ranking, one, other)
 

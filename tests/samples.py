@@ -173,3 +173,29 @@ def check_own(case, ask, *handed):
     case.assertEqual(frozen(again), picture)
     case.assertEqual(frozen(ask(*handed)), picture)
     case.assertEqual(frozen(handed), before)
+
+
+def no_weights(many):
+    """Things that are no weights of so many hands."""
+    right = [1 + place for place in range(many)]
+    things = list(ODD_THINGS)
+    things += [right[:-1], right + [1], tuple(right), [right], right + right, [[]] * many]
+    for place in range(many):
+        for wrong in (0, -1, -LONGEST, True, False, None, "1", "", (), (1,), [1], [], (((1,),),)):
+            things.append(right[:place] + [wrong] + right[place + 1:])
+    return things
+
+
+def some_weights(chance, many):
+    """Some weights of so many hands: small ones, now and then all alike, or of many figures."""
+    most = chance.choice([1, 2, 3, 9, LONGEST])
+    return [chance.randint(1, most) for _ in range(many)]
+
+
+def folk_that_beats(names, pairs):
+    """A folk of which the first name of each of these pairs beats the second one, and none else does."""
+    folk = []
+    for one, other in pairs:
+        rest = [name for name in names if name not in (one, other)]
+        folk += [[one, other] + rest, rest[::-1] + [one, other]]
+    return folk

@@ -36,6 +36,24 @@ INTERFACE = {
         "row_judged": ["folk", "paper"],
         "row_built": ["folk"],
     },
+    "more": {
+        "margin": ["folk", "weights", "one", "other"],
+        "order_judged": ["folk", "weights", "paper"],
+        "order_of": ["folk", "weights"],
+        "unbeaten": ["folk", "weights"],
+        "middle": ["folk", "weights", "line"],
+    },
+    "middles": {
+        "middle_of": ["line", "tops", "fixed"],
+        "rule_of": ["line", "many", "fixed"],
+        "rule_judged": ["line", "many", "rule", "paper"],
+        "rule_looked": ["line", "many", "rule"],
+    },
+    "few": {
+        "cost": ["folk", "weights", "names"],
+        "few": ["folk", "weights", "line", "many"],
+        "few_judged": ["folk", "weights", "line", "many", "thing"],
+    },
 }
 
 
