@@ -63,6 +63,13 @@ def check_folk(thing):
         raise NoFolk("this is no folk")
 
 
+def check_rising(thing):
+    """Refuse what is no rising list of names."""
+    # Such a list has the form of a ranking.
+    if not is_ranking(thing) or thing != sorted(thing):
+        raise NoNames("these are no names, the least first")
+
+
 def check_same_names(one, other):
     """Refuse two rankings, or a line and a ranking, of other names."""
     if not have_same_names(one, other):

@@ -1,6 +1,6 @@
 """What the judges tell by the words of points 10 to 14, asked plainly and one thing after the other."""
 
-from itertools import combinations, permutations
+from itertools import combinations, permutations, product
 
 from samples import falls_by_words
 
@@ -93,6 +93,14 @@ def all_line_papers(folk):
     papers += [("three", list(some), list(few)) for some in permutations(hands, 3) for few in permutations(names, 3)]
     papers += [("four", list(some), list(few)) for some in permutations(hands, 2) for few in permutations(names, 4)]
     return papers
+
+
+def all_bars(folk):
+    """All bars of rows of a folk that have the form told, but for other orders of what is told of one hand."""
+    hands, two = range(len(folk)), [list(pair) for pair in permutations(sorted(folk[0]), 2)]
+    bars = [("apart", list(some), list(pairs)) for some in combinations(hands, 3) for pairs in product(two, repeat=3)]
+    bars += [("cross", list(some), list(pairs)) for some in permutations(hands, 4) for pairs in product(two, repeat=2)]
+    return bars
 
 
 def all_rows(folk):

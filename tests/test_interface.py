@@ -54,6 +54,29 @@ INTERFACE = {
         "few": ["folk", "weights", "line", "many"],
         "few_judged": ["folk", "weights", "line", "many", "thing"],
     },
+    "nearest": {
+        "nearest": ["line", "ranking"],
+        "nearest_judged": ["line", "ranking", "thing"],
+    },
+    "trees": {
+        "is_tree": ["names", "thing"],
+        "first_apart": ["tree", "ranking"],
+        "options": ["folk", "gone", "name"],
+        "tree_told": ["folk"],
+        "tree_judged": ["folk", "paper"],
+        "trees_many": ["folk"],
+        "tree_number": ["folk", "tree"],
+        "balance": ["folk", "tree"],
+        "tree_by": ["folk", "number"],
+    },
+    "texts": {
+        "ranking_text": ["ranking"],
+        "folk_text": ["folk"],
+        "paper_text": ["paper"],
+        "read_ranking": ["text"],
+        "read_folk": ["text"],
+        "read_paper": ["text"],
+    },
 }
 
 
@@ -73,6 +96,16 @@ class Interface(unittest.TestCase):
             defined = [part.name for part in tree.body if isinstance(part, ast.FunctionDef)]
             for name in functions:
                 self.assertEqual(defined.count(name), 1, name)
+
+    def test_the_desk_and_its_method_are_defined_in_its_file(self):
+        tree = ast.parse((PACKAGE / "desk.py").read_text())
+        desks = [part for part in tree.body if isinstance(part, ast.ClassDef) and part.name == "Desk"]
+        self.assertEqual(len(desks), 1)
+        methods = {part.name: [one.arg for one in part.args.args] for part in desks[0].body
+                   if isinstance(part, ast.FunctionDef)}
+        self.assertEqual(methods["__init__"], ["self", "names"])
+        self.assertEqual(methods["say"], ["self", "row"])
+        self.assertEqual(importlib.import_module("ontheline.desk").Desk([0]).say("hands"), "")
 
     def test_each_error_is_defined_in_its_file(self):
         from samples import ALL_ERRORS

@@ -4,6 +4,8 @@ import doctest
 import pathlib
 import unittest
 
+from test_interface import INTERFACE
+
 README = pathlib.Path(__file__).resolve().parent.parent / "README.md"
 
 
@@ -14,11 +16,14 @@ class Readme(unittest.TestCase):
         self.assertEqual(failed, 0)
         self.assertGreater(tried, 20)
 
-    def test_it_names_each_module_and_how_to_run_the_tests(self):
+    def test_it_names_each_function_and_how_to_run_the_tests(self):
         text = README.read_text(encoding="utf-8")
-        for file in sorted((README.parent / "ontheline").glob("*.py")):
-            if file.stem not in ("__init__", "papers"):
-                self.assertIn("ontheline." + file.stem, text)
+        for file, functions in INTERFACE.items():
+            self.assertIn("ontheline." + file, text)
+            for name in functions:
+                self.assertIn("`" + name + "(", text)
+        for told in ("ontheline.errors", "ontheline.desk", "Desk(names)", "say(row)"):
+            self.assertIn(told, text)
         self.assertIn("bash .ci/run", text)
 
 

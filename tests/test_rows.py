@@ -3,9 +3,9 @@
 import random
 import time
 import unittest
-from itertools import combinations, permutations, product
+from itertools import permutations, product
 
-from by_words import all_rows, row_judged_by_words
+from by_words import all_bars, all_rows, row_judged_by_words
 from ontheline.rows import row_judged
 from samples import (
     LONGEST, NO_FOLKS, ODD_THINGS, bent_lists, bent_papers, check_own, numbers_in, orders, refused, some_along_row)
@@ -23,14 +23,6 @@ CROSS = [[1, 0, 7, 3], [0, 1, 7, 3], [1, 0, 3, 7], [7, 1, 0, 3], [3, 7, 0, 1]]
 CROSS_PAPER = ("cross", [4, 1, 2, 0], [[0, 1], [3, 7]])
 
 RIGHT = [(ROW, ROW_PAPER), (APART, APART_PAPER), (CROSS, CROSS_PAPER)]
-
-
-def all_bars(folk):
-    """All bars of rows of a folk that have the form told, but for other orders of what is told of one hand."""
-    hands, two = range(len(folk)), [list(pair) for pair in permutations(sorted(folk[0]), 2)]
-    bars = [("apart", list(some), list(pairs)) for some in combinations(hands, 3) for pairs in product(two, repeat=3)]
-    bars += [("cross", list(some), list(pairs)) for some in permutations(hands, 4) for pairs in product(two, repeat=2)]
-    return bars
 
 
 class LetBy(unittest.TestCase):
