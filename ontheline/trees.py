@@ -20,7 +20,8 @@ def is_tree_of(names, thing):
         return False
     if not all(is_tie(names, tie) for tie in thing):
         return False
-    # Without a tie that is told twice: with one there would be too few to hang all names together.
+    # A tie that is told twice needs no look of its own: there are too few others then for
+    # all names to hang together.
     return thing == sorted(thing) and are_together(thing, names)
 
 
